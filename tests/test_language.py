@@ -25,6 +25,11 @@ STATEMENTS = (ast.Assign, ast.AugAssign, ast.If, ast.While, ast.For, ast.Return,
               ast.Raise, ast.Try, ast.Expr, ast.FunctionDef)
 NO_EXPRESSIONS = (ast.SetComp, ast.DictComp, ast.GeneratorExp, ast.NamedExpr, ast.Starred, ast.Yield, ast.YieldFrom,
                   ast.Await, ast.Div, ast.MatMult)
+WALKS = ("items", "keys", "values")
+WALKERS = ("list", "tuple", "dict", "sorted", "sum", "any", "all", "enumerate", "zip")
+CHANGES = ("append", "clear", "extend", "insert", "pop", "remove", "reverse", "setdefault", "update")
+KEYWORDS = {"sorted": {"key", "reverse"}, "min": {"key", "default"}, "max": {"key", "default"}, "sum": {"start"},
+            "enumerate": {"start"}, "zip": {"strict"}}
 
 
 def is_plain(value, inner=False):
@@ -184,9 +189,137 @@ def name_faults(tree, own):
             yield line, f"L12 or L17 the name {name}"
 
 
+def parents_in(tree):
+    """The node above each node."""
+    return {inner: node for node in ast.walk(tree) for inner in ast.iter_child_nodes(node)}
+
+
+def called_name(node):
+    return node.func.id if isinstance(node, ast.Call) and isinstance(node.func, ast.Name) else None
+
+
+def is_walk(node):
+    if called_name(node) in ("zip", "enumerate", "reversed", "range"):
+        return True
+    return isinstance(node, ast.Call) and isinstance(node.func, ast.Attribute) and node.func.attr in WALKS
+
+
+def is_walked(node, above):
+    """Whether what is walked stands behind the in of a loop, or in a call that walks it at once."""
+    if isinstance(above, (ast.For, ast.comprehension)):
+        return above.iter is node
+    if not isinstance(above, ast.Call):
+        return False
+    if isinstance(above.func, ast.Attribute):
+        return above.func.attr == "join" and isinstance(above.func.value, ast.Constant)
+    if called_name(above) in ("min", "max"):
+        return len(above.args) == 1 and not above.keywords
+    if called_name(above) == "zip":
+        return node in above.args
+    return called_name(above) in WALKERS and above.args[0] is node
+
+
+def is_set_asked(above):
+    if isinstance(above, ast.BinOp):
+        return isinstance(above.op, (ast.Sub, ast.BitAnd, ast.BitOr, ast.BitXor))
+    return isinstance(above, ast.Compare) or (called_name(above) in ("sorted", "len") and not above.keywords)
+
+
+def walk_faults(tree):
+    above = parents_in(tree)
+    for node in ast.walk(tree):
+        if is_walk(node) and not is_walked(node, above[node]):
+            yield node.lineno, "L23 a walk that is kept"
+        if isinstance(node, ast.Set) or called_name(node) in ("set", "frozenset"):
+            if not is_set_asked(above[node]):
+                yield node.lineno, "L24 a set that is kept"
+        if isinstance(node, ast.For) and isinstance(node.iter, ast.Name):
+            for inner in ast.walk(node):
+                if changes_name(inner, node.iter.id):
+                    yield inner.lineno, "L23 what is walked is changed"
+
+
+def changes_name(node, name):
+    """Whether a node changes the list or dict of this name: by a method, or by an index."""
+    if isinstance(node, ast.Call) and isinstance(node.func, ast.Attribute) and node.func.attr in CHANGES:
+        return isinstance(node.func.value, ast.Name) and node.func.value.id == name
+    if isinstance(node, ast.Subscript) and isinstance(node.ctx, ast.Store):
+        return isinstance(node.value, ast.Name) and node.value.id == name
+    return False
+
+
+def called_faults(tree):
+    """Python's own names are called, not kept; keywords stand at few of them."""
+    above = parents_in(tree)
+    for node in ast.walk(tree):
+        name = called_name(node)
+        if name in BUILTINS:
+            words = {word.arg for word in node.keywords}
+            if words - KEYWORDS.get(name, set()):
+                yield node.lineno, f"L22 a keyword at {name}"
+        if isinstance(node, ast.Call) and isinstance(node.func, ast.Attribute) and node.keywords:
+            yield node.lineno, "L22 a keyword at a method"
+        if isinstance(node, ast.Name) and node.id in BUILTINS and not stands_well(node, above):
+            yield node.lineno, f"L22 {node.id} is kept"
+
+
+def stands_well(node, above):
+    over = above[node]
+    if isinstance(over, ast.Call) and over.func is node:
+        return True
+    if isinstance(over, ast.Tuple):
+        over = above[over]
+    if called_name(over) == "isinstance" or isinstance(over, (ast.ExceptHandler, ast.ClassDef)):
+        return True
+    return isinstance(over, ast.keyword) and over.arg == "key"
+
+
+def kept_faults(tree):
+    """Lists and dicts of a file's top are only read."""
+    above = parents_in(tree)
+    rows = [row for row in tree.body if isinstance(row, ast.Assign) and isinstance(row.value, (ast.List, ast.Dict))]
+    tops = {row.targets[0].id for row in rows if isinstance(row.targets[0], ast.Name)}
+    for node in ast.walk(tree):
+        if isinstance(node, ast.Name) and node.id in tops and isinstance(node.ctx, ast.Load):
+            if not is_read(node, above[node]):
+                yield node.lineno, f"L15 {node.id} is handed on or changed"
+
+
+def is_read(node, over):
+    if isinstance(over, ast.Subscript):
+        return isinstance(over.ctx, ast.Load) and over.value is node
+    if isinstance(over, ast.Attribute):
+        return over.attr in ("get", "items", "keys", "values", "index", "count")
+    if isinstance(over, ast.Call):
+        return called_name(over) in ("len", "list", "dict", "tuple", "sorted", "min", "max", "sum", "any", "all")
+    return isinstance(over, (ast.For, ast.comprehension, ast.Compare))
+
+
+def class_use_faults(tree):
+    above = parents_in(tree)
+    classes = {row.name for row in tree.body if isinstance(row, ast.ClassDef)}
+    for node in ast.walk(tree):
+        if isinstance(node, ast.ImportFrom) and node.module == PACKAGE + ".errors":
+            classes |= {name.name for name in node.names}
+    for node in ast.walk(tree):
+        if isinstance(node, ast.Name) and node.id in classes:
+            over = above[node]
+            called = isinstance(over, ast.Call) and over.func is node
+            init = isinstance(over, ast.Attribute) and over.attr == "__init__"
+            if not called and not init and not stands_well(node, above):
+                yield node.lineno, "L18 a class that is kept"
+        if isinstance(node, ast.ExceptHandler) and isinstance(node.type, ast.Name):
+            if node.type.id not in classes | {"KeyError", "ZeroDivisionError", "StopIteration"}:
+                yield node.lineno, "L19 an error of Python's own"
+    lambdas = [(node.lineno, ast.dump(node.args)) for node in ast.walk(tree) if isinstance(node, ast.Lambda)]
+    if len(lambdas) != len(set(lambdas)):
+        yield 1, "L13 two lambdas with the same parameters on one line"
+
+
 def faults_in(source, own=frozenset()):
     tree = ast.parse(source)
     found = list(text_faults(source)) + list(top_faults(tree)) + list(name_faults(tree, own | own_names(tree)))
+    found += list(walk_faults(tree)) + list(called_faults(tree)) + list(kept_faults(tree)) + list(class_use_faults(tree))
     line = 1
     for node in ast.walk(tree):
         line = getattr(node, "lineno", line)
@@ -218,6 +351,13 @@ FAULTY = (
     "def f(a):\n    return a / 2", "def f(a):\n    return 2 ** a", "def f():\n    return 1.0",
     "def f(a):\n    return {b for b in a}", "def f(a, b):\n    return a is b", "def f(a):\n    return f'{a + 1}'",
     "def f(a):\n    return open(a)", "def f(a):\n    return chr(a)", "def f(a):\n    a.sort()",
+    "def f(a):\n    return a in range(3)", "def f(a):\n    b = a.items()\n    return b", "def f(a):\n    return zip(a, a)",
+    "def f(a):\n    return len(a.values())", "def f(a):\n    b = set(a)\n    return b", "def f(a):\n    return {1, 2}",
+    "def f(a):\n    for b in a:\n        a.append(b)", "def f(a):\n    for b in a:\n        a[b] = 1",
+    "def f(a):\n    return list(a, key=1)", "def f(a):\n    return f(len)", "def f(a):\n    return a.get(k=1)",
+    "x = {1: 2}\ndef f():\n    return x", "x = [1]\ndef f():\n    x.append(1)", "x = {1: 2}\ndef f():\n    x[1] = 2",
+    "class A:\n    pass\ndef f():\n    return [A]", "def f(a):\n    return [lambda b: b, lambda b: a]",
+    "def f(a):\n    try:\n        return a\n    except ValueError:\n        return 1",
     "def f():\n    return 'a % b'", "def f():\n    return " + "1 + " * 40 + "1", "def f():\n" + "    pass\n" * 40,
 )
 
