@@ -3,10 +3,18 @@
 import random
 import unittest
 
+from bending import changed
 from kernelworlds import random_call, random_row, ready_ones, worlds
+from plainworlds import seventh, state, task
+from test_plainstates import BENT as PLAIN_BENT
+from test_tyings import BENT as TIED_BENT
+from test_tyings import three
 from underfloor.code import coded
+from underfloor.kernelcalls import kernel_call
 from underfloor.kernels import kernel_wrong
 from underfloor.pairs import begun, pair_ring, pair_step, pair_turn
+from underfloor.plaincalls import plain_call
+from underfloor.plainstates import plain_wrong
 from underfloor.stops import step_writings, stopped_pair
 from underfloor.texts import read_code, shown_code
 from underfloor.turns import BOUND
@@ -108,6 +116,54 @@ class Others(unittest.TestCase):
                     if number != who:
                         self.other(pair[1], behind[1], number, told, words)
                 self.assertIsNone(kernel_wrong(behind[0]))
+
+
+def reordered(thing):
+    """The same thing, the keys of each dict in the other order."""
+    if isinstance(thing, dict):
+        return {key: reordered(thing[key]) for key in reversed(list(thing))}
+    if isinstance(thing, list):
+        return [reordered(part) for part in thing]
+    return tuple(reordered(part) for part in thing) if isinstance(thing, tuple) else thing
+
+
+class Keys(unittest.TestCase):
+    """Nothing hangs on the order of a dict's keys."""
+
+    def test_calls_and_steps(self):
+        for seed, kernel, plain, tying in worlds(40, 130000):
+            chance = random.Random(seed)
+            other = reordered((kernel, plain, tying))
+            self.assertIsNone(tied(*other))
+            for who in ready_ones(plain)[:3]:
+                for number in range(25):
+                    words = random_call(chance, plain, number, who)
+                    told = kernel_call(kernel, who, number, *words)
+                    self.assertEqual(kernel_call(other[0], who, number, *words), told)
+                    self.assertEqual(plain_call(other[1], who, number, *words), plain_call(plain, who, number, *words))
+                self.assertEqual(pair_step(other, who), pair_step((kernel, plain, tying), who))
+            self.assertEqual(pair_turn(other), pair_turn((kernel, plain, tying)))
+
+    def test_what_is_wrong(self):
+        for path, parts in PLAIN_BENT:
+            for part in parts:
+                bent = {**changed(seventh(), path, part)}
+                twice = changed(changed(bent, ("tasks", 12), task(rank=9)), ("tasks", 13), task(row=-1))
+                for thing in (bent, twice):
+                    self.assertEqual(plain_wrong(reordered(thing)), plain_wrong(thing))
+        for path, parts in TIED_BENT:
+            for part in parts:
+                bent = changed(three(), path, part)
+                self.assertEqual(tied(*reordered(bent)), tied(*bent))
+
+    def test_two_things_wrong_at_once(self):
+        nodes = {0: ("folder", {1: 1, 2: 1, 3: 9}), 1: ("folder", {4: 0})}
+        both = state({1: task(waits=("ended", 0), handles={1: 0}), 2: task(waits=("ended", 0), rung=True)})
+        waits = state({1: task(waits=("take", 1, 0)), 2: task(waits=("take", 2, 0)), 3: task(waits=("take", 2, 0))},
+                      boxes={2: (1, [])}, clock=1)
+        for thing in (state({}, nodes=nodes), both, waits):
+            self.assertIsInstance(plain_wrong(thing), str)
+            self.assertEqual(plain_wrong(reordered(thing)), plain_wrong(thing))
 
 
 if __name__ == "__main__":

@@ -54,6 +54,11 @@ def answered(state, task, answer, second=None):
     return with_task(state, task, {"regs": regs, "waits": None})
 
 
+def tasks_in(state):
+    """The tasks by rising ids, so that what is told hangs on no order of keys."""
+    return [state["tasks"][task] for task in sorted(state["tasks"])]
+
+
 def plain_wrong(thing):
     if not has_keys(thing, STATE_KEYS):
         return "this is no dict with the keys of a plain state"
@@ -73,7 +78,7 @@ def clock_wrong(state):
 def tasks_wrong(state):
     if not has_numbers(state["tasks"], 1, MOST_TASK):
         return "tasks is no dict from ids"
-    return first_wrong([task_wrong(task, state["clock"]) for task in state["tasks"].values()])
+    return first_wrong([task_wrong(task, state["clock"]) for task in tasks_in(state)])
 
 
 def task_wrong(task, clock):
@@ -178,8 +183,8 @@ def is_names(thing):
 
 def tree_wrong(nodes):
     stands = {}
-    for node in nodes.values():
-        for inner in named_nodes(node):
+    for number in sorted(nodes):
+        for inner in named_nodes(nodes[number]):
             if inner == 0 or inner not in nodes:
                 return "a name leads to no node that can stand by one"
             if inner in stands:
@@ -191,7 +196,7 @@ def tree_wrong(nodes):
 
 
 def named_nodes(node):
-    return list(node[1].values()) if node[0] == "folder" else []
+    return [node[1][name] for name in sorted(node[1])] if node[0] == "folder" else []
 
 
 def walked_from_root(nodes):
@@ -223,7 +228,7 @@ def ties_wrong(state):
 
 
 def handles_wrong(state):
-    for task in state["tasks"].values():
+    for task in tasks_in(state):
         if not all([node in state["nodes"] for node in task["handles"].values()]):
             return "a handle's node isn't there"
     return None
@@ -232,7 +237,7 @@ def handles_wrong(state):
 def held_numbers(state):
     """The numbers of the lent pages that some task holds."""
     held = []
-    for task in state["tasks"].values():
+    for task in tasks_in(state):
         held.extend([entry[1] for entry in task["pages"].values() if entry[0] == "lent"])
     return held
 
@@ -246,7 +251,7 @@ def holding_wrong(state):
 
 def waiting_wrong(state):
     met = {}
-    for task in state["tasks"].values():
+    for task in tasks_in(state):
         waits = task["waits"]
         if waits is not None and waits[0] in ("send", "take"):
             if not may_wait(state["boxes"], waits):
@@ -265,7 +270,7 @@ def may_wait(boxes, waits):
 
 
 def ended_wrong(state):
-    for task in state["tasks"].values():
+    for task in tasks_in(state):
         if has_ended(task["waits"]):
             if len(task["handles"]) > 0 or len(task["pages"]) > 0:
                 return "a task that ended has handles or pages"

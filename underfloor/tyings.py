@@ -89,9 +89,9 @@ def memory_wrong(kernel, plain, tying):
         return "both haven't the same lent numbers"
     if not all([memory["frames"][memory["lent"][number]] == page for number, page in plain["lent"].items()]):
         return "a lent page has other words"
-    for task, table in memory["tables"].items():
+    for task in sorted(memory["tables"]):
         pages = plain["tasks"][task]["pages"]
-        if sorted(table) != sorted(pages):
+        if sorted(memory["tables"][task]) != sorted(pages):
             return "a task has other pages"
         if not all([is_same_page(memory, entry_of(memory, task, page), pages[page]) for page in pages]):
             return "a task's page is another one"
