@@ -123,6 +123,12 @@ class PlainWrong(unittest.TestCase):
         self.wrong(state({1: task(waits=("send", 1, 0, -1))}, boxes={1: (1, [0])}, clock=2))
         self.assertIsNone(plain_wrong(state({1: task(waits=("send", 1, 0, 0))}, boxes={1: (1, [0])}, clock=1)))
 
+        self.assertIsNone(plain_wrong(state({1: task(waits=("take", 1, 0))}, boxes={1: (1, [])}, clock=1)))
+        self.assertIsNone(plain_wrong(state({1: task(pages={0: ("lent", 1)})}, lent={1: NOUGHTS})))
+        for node, good in ((1, True), (39, True), (40, False), (-1, False)):
+            told = plain_wrong(state({}, nodes={0: ("folder", {1: node}), node: ("file", [])}))
+            self.assertEqual(told is None, good, node)
+
     def test_thirty_three_names(self):
         world = good_states()[4]
         folder = {name: 32 + name for name in range(1, 8)}
